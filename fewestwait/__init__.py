@@ -1,0 +1,1 @@
+"""Fewestwait: who is served next, and which line to join."""

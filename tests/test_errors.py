@@ -1,0 +1,89 @@
+"""Promise [4]: the errors of the package."""
+
+import unittest
+
+from fewestwait import errors
+from fewestwait.moves import even_moved, even_moves, less_moved, less_moves
+from fewestwait.rows import Row
+
+ONE_TEXT = [
+    "InvalidRow", "InvalidMove", "InvalidDeed", "InvalidDay", "InvalidWork", "InvalidOrder", "InvalidLines",
+    "NotFewer", "NotEvener", "NothingToUndo", "InvalidText", "InvalidCommand", "NotReady",
+]
+
+
+class ErrorClasses(unittest.TestCase):
+    def test_day_error_is_directly_under_value_error(self):
+        self.assertEqual(errors.DayError.__bases__, (ValueError,))
+
+    def test_each_error_is_directly_under_day_error(self):
+        for name in ONE_TEXT + ["InvalidPlan"]:
+            with self.subTest(name):
+                self.assertEqual(getattr(errors, name).__bases__, (errors.DayError,))
+
+    def test_there_are_no_other_errors(self):
+        found = [name for name, value in vars(errors).items() if isinstance(value, type)]
+        self.assertEqual(sorted(found), sorted(ONE_TEXT + ["InvalidPlan", "DayError"]))
+
+    def test_each_error_is_created_with_one_text(self):
+        for name in ONE_TEXT:
+            with self.subTest(name):
+                error = getattr(errors, name)("because")
+                self.assertEqual(str(error), "because")
+                self.assertEqual(error.args, ("because",))
+
+    def test_invalid_plan_keeps_its_field(self):
+        for at in (0, 7, 10 ** 30):
+            self.assertEqual(errors.InvalidPlan(at).at, at)
+
+    def test_errors_can_be_caught_as_day_error_and_as_value_error(self):
+        for caught in (errors.DayError, ValueError):
+            with self.assertRaises(caught):
+                Row(["no"])
+
+
+class WhatIsRaised(unittest.TestCase):
+    """Each call raises just the class that the interface names, with one text."""
+
+    def assertFails(self, name, call, *arguments):
+        with self.assertRaises(errors.DayError) as caught:
+            call(*arguments)
+        self.assertIs(type(caught.exception), getattr(errors, name))
+        self.assertEqual(len(caught.exception.args), 1)
+        self.assertIsInstance(caught.exception.args[0], str)
+
+    def test_classes(self):
+        small, great = Row([1]), Row([2])
+        self.assertFails("InvalidRow", Row, [0])
+        self.assertFails("NotFewer", less_moves, great, small)
+        self.assertFails("NotEvener", even_moves, great, small, 1)
+        self.assertFails("InvalidLines", even_moves, small, Row([1, 1]), 1)
+        self.assertFails("InvalidMove", less_moved, small, [("off", 2)])
+        self.assertFails("InvalidMove", even_moved, small, [("off", 2)], 1)
+        self.assertFails("InvalidLines", even_moved, Row([1, 1]), [], 1)
+
+    def test_invalid_lines_comes_ahead_of_invalid_move(self):
+        self.assertFails("InvalidLines", even_moved, Row([1, 1]), ["no move"], 1)
+
+    def test_invalid_lines_comes_ahead_of_not_evener(self):
+        self.assertFails("InvalidLines", even_moves, Row([5, 5]), Row([1]), 1)
+        self.assertFails("InvalidLines", even_moves, Row([9]), Row([1, 1]), 1)
+
+    def test_a_call_that_raises_changes_nothing(self):
+        row, other = Row([3, 2, 2]), Row([1])
+        moves = [("off", 3), ("pass", 2, 2), ("pass", 7, 7)]
+        items = [2, 0]
+        self.assertFails("InvalidMove", less_moved, row, moves)
+        self.assertFails("InvalidMove", even_moved, row, moves, 3)
+        self.assertFails("NotFewer", less_moves, row, other)
+        self.assertFails("NotEvener", even_moves, row, other, 3)
+        self.assertFails("InvalidLines", even_moves, row, other, 2)
+        self.assertFails("InvalidRow", Row, items)
+        self.assertEqual(row.parts, [3, 2, 2])
+        self.assertEqual(other.parts, [1])
+        self.assertEqual(moves, [("off", 3), ("pass", 2, 2), ("pass", 7, 7)])
+        self.assertEqual(items, [2, 0])
+
+
+if __name__ == "__main__":
+    unittest.main()
