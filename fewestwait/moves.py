@@ -1,8 +1,8 @@
 """Moves that lead from a row to one with fewer left, or to an evener one."""
 
-from fewestwait.errors import InvalidLines, InvalidMove, NotEvener, NotFewer
-from fewestwait.kinds import is_integer
-from fewestwait.rows import Row, not_evener, not_fewer
+from fewestwait.errors import InvalidMove, NotEvener, NotFewer
+from fewestwait.kinds import has_form
+from fewestwait.rows import Row, check_lines, not_evener, not_fewer
 
 
 def less_moves(one, other):
@@ -15,8 +15,8 @@ def less_moves(one, other):
 
 def even_moves(one, other, lines):
     """Return even-moves that lead from `other` to `one`, on so many lines."""
-    _check_lines(one, lines)
-    _check_lines(other, lines)
+    check_lines(one, lines)
+    check_lines(other, lines)
     k = not_evener(one, other)
     if k is not None:
         raise NotEvener(f"the head {k} of the one row is greater")
@@ -35,18 +35,13 @@ def less_moved(row, moves):
 
 def even_moved(row, moves, lines):
     """Return the Row behind the even-moves, on so many lines."""
-    _check_lines(row, lines)
+    check_lines(row, lines)
     items = row.parts
     for at, move in enumerate(moves):
         if not _allows_even(items, move, lines):
             raise InvalidMove(f"item {at} is not an even-move that the row allows")
         items = _moved(items, move)
     return Row(items)
-
-
-def _check_lines(row, lines):
-    if len(row) > lines:
-        raise InvalidLines(f"a row of {len(row)} items does not fit the lines")
 
 
 def _path(one, other, step):
@@ -87,9 +82,9 @@ def _even_step(one, row):
 
 
 def _allows_less(items, move):
-    if _has_form(move, "off", 2):
+    if has_form(move, "off", 2):
         return move[1] in items
-    if not _has_form(move, "pass", 3):
+    if not has_form(move, "pass", 3):
         return False
     low, high = move[1], move[2]
     if low == high:
@@ -98,21 +93,13 @@ def _allows_less(items, move):
 
 
 def _allows_even(items, move, lines):
-    if _has_form(move, "off", 2):
+    if has_form(move, "off", 2):
         return move[1] in items
-    if not _has_form(move, "pass", 3):
+    if not has_form(move, "pass", 3):
         return False
     high, low = move[1], move[2]
     can_take = low in items or (low == 0 and len(items) < lines)
     return high - low >= 2 and high in items and can_take
-
-
-def _has_form(move, word, size):
-    if not isinstance(move, tuple) or len(move) != size:
-        return False
-    # True would otherwise pass for an item 1.
-    numbers = all([is_integer(value) for value in move[1:]])
-    return numbers and isinstance(move[0], str) and move[0] == word
 
 
 def _moved(items, move):

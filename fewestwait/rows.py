@@ -1,6 +1,6 @@
 """Rows of works or of lines, and the two orders of them."""
 
-from fewestwait.errors import InvalidRow
+from fewestwait.errors import InvalidLines, InvalidRow
 from fewestwait.kinds import is_integer_from
 
 
@@ -64,6 +64,12 @@ def not_evener(one, other):
         if one.head(k) > other.head(k):
             return k
     return None
+
+
+def check_lines(row, lines):
+    """Raise InvalidLines if the row has more items than there are lines."""
+    if len(row) > lines:
+        raise InvalidLines(f"a row of {len(row)} items does not fit the lines")
 
 
 def _are_items(value):

@@ -1,9 +1,16 @@
-"""All small rows, as plain tuples, and the orders and moves of DOC.md over them, word by word.
+"""All small rows, as plain tuples, and the orders, moves and deeds of DOC.md over them, word by word.
 
 Nothing here uses the package: the tests hold it against this.
 """
 
 from itertools import combinations_with_replacement
+
+
+class EqualToAll:
+    """Not an integer, not a word and not None, whatever == says."""
+
+    def __eq__(self, other):
+        return True
 
 
 def all_rows(many, greatest):
@@ -73,3 +80,51 @@ def reached(row, steps_of):
                 found[behind] = True
                 waiting.append(behind)
     return found
+
+
+def work_deed(row, deed):
+    """The row behind a deed for works."""
+    word, *numbers = deed
+    if word == "come":
+        return tuple(sorted(row + tuple(numbers), reverse=True))
+    if not row:
+        return row
+    from_the_least = sorted(row)
+    rank = numbers[0] if word == "serve" and numbers[0] <= len(row) else len(row)
+    from_the_least[rank - 1] -= 1
+    return tuple(sorted([item for item in from_the_least if item > 0], reverse=True))
+
+
+def line_deed(row, lines, deed):
+    """The row behind a deed for lines."""
+    word, *numbers = deed
+    lengths = sorted(row, reverse=True) + [0] * (lines - len(row))
+    if word == "tick":
+        lengths = [length - 1 if length else 0 for length in lengths]
+    elif word == "join":
+        lengths[numbers[0] - 1] += 1
+    elif lengths[numbers[0] - 1] > 0:
+        lengths[numbers[0] - 1] -= 1
+    return tuple(sorted([length for length in lengths if length > 0], reverse=True))
+
+
+def pairs_kept(rows, measure, deeds, behind):
+    """The pairs of deeds that no two of the rows break, for the order that the measure makes."""
+    longest = max(map(len, rows)) + 2
+    measured = {}
+
+    def measures(row):
+        if row not in measured:
+            measured[row] = [measure(row, k) for k in range(longest)]
+        return measured[row]
+
+    def ordered(x, y):
+        return all(map(int.__le__, measures(x), measures(y)))
+
+    below = [(x, y) for x in rows for y in rows if ordered(x, y)]
+    after = {deed: {row: behind(row, deed) for row in rows} for deed in deeds}
+    return {
+        (deed, other): all(ordered(after[deed][x], after[other][y]) for x, y in below)
+        for deed in deeds
+        for other in deeds
+    }

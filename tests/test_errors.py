@@ -3,8 +3,11 @@
 import unittest
 
 from fewestwait import errors
+from fewestwait.days import check_plan, finished, forbidding, plan_for, row_at, waiting
+from fewestwait.deeds import breaks_evener, breaks_fewer, keeps_evener, keeps_fewer, line_deed, work_deed
 from fewestwait.moves import even_moved, even_moves, less_moved, less_moves
 from fewestwait.rows import Row
+from fewestwait.rules import Shortest, is_table, least_tails, least_waiting, plan_of, table
 
 ONE_TEXT = [
     "InvalidRow", "InvalidMove", "InvalidDeed", "InvalidDay", "InvalidWork", "InvalidOrder", "InvalidLines",
@@ -61,6 +64,41 @@ class WhatIsRaised(unittest.TestCase):
         self.assertFails("InvalidMove", less_moved, small, [("off", 2)])
         self.assertFails("InvalidMove", even_moved, small, [("off", 2)], 1)
         self.assertFails("InvalidLines", even_moved, Row([1, 1]), [], 1)
+
+    def test_classes_of_deeds(self):
+        for deed in [("join", 0), ("come", 0), "serve"]:
+            self.assertFails("InvalidDeed", work_deed, Row([1]), deed)
+            self.assertFails("InvalidDeed", line_deed, Row([1]), 1, deed)
+            for call in (keeps_fewer, breaks_fewer):
+                self.assertFails("InvalidDeed", call, deed, ("longest",))
+                self.assertFails("InvalidDeed", call, ("longest",), deed)
+            for call in (keeps_evener, breaks_evener):
+                self.assertFails("InvalidDeed", call, 2, deed, ("tick",))
+                self.assertFails("InvalidDeed", call, 2, ("tick",), deed)
+        self.assertFails("InvalidLines", line_deed, Row([1, 1]), 1, ("tick",))
+
+    def test_classes_of_days_and_rules(self):
+        day, no_day, no_plan = [(0, 1)], [(0, 0)], [0, 0]
+        for call in (check_plan, finished, waiting, table):
+            self.assertFails("InvalidDay", call, no_day, no_plan)
+            self.assertFails("InvalidPlan", call, day, no_plan)
+        for call, last in [(row_at, 0), (is_table, [])]:
+            self.assertFails("InvalidDay", call, no_day, no_plan, last)
+            self.assertFails("InvalidPlan", call, day, no_plan, last)
+        for call in (plan_for, forbidding):
+            self.assertFails("InvalidDay", call, no_day, 1, [2])
+            self.assertFails("InvalidWork", call, day, 1, [2])
+        self.assertFails("InvalidPlan", waiting, day, [])
+        self.assertFails("InvalidDay", plan_of, Shortest(), no_day)
+        self.assertFails("InvalidDay", least_waiting, no_day)
+        self.assertFails("InvalidDay", least_tails, no_day, 0)
+
+    def test_invalid_lines_comes_ahead_of_invalid_deed(self):
+        self.assertFails("InvalidLines", line_deed, Row([1, 1]), 1, "no deed")
+
+    def test_invalid_day_comes_ahead_of_invalid_plan_and_invalid_work(self):
+        self.assertFails("InvalidDay", check_plan, "no day", [7])
+        self.assertFails("InvalidDay", plan_for, "no day", 0, "no amounts")
 
     def test_invalid_lines_comes_ahead_of_invalid_move(self):
         self.assertFails("InvalidLines", even_moved, Row([1, 1]), ["no move"], 1)

@@ -15,6 +15,30 @@ FUNCTIONS = {
         "less_moved": ["row", "moves"],
         "even_moved": ["row", "moves", "lines"],
     },
+    "deeds.py": {
+        "work_deed": ["row", "deed"],
+        "line_deed": ["row", "lines", "deed"],
+        "keeps_fewer": ["deed", "other"],
+        "keeps_evener": ["lines", "deed", "other"],
+        "breaks_fewer": ["deed", "other"],
+        "breaks_evener": ["lines", "deed", "other"],
+    },
+    "days.py": {
+        "check_plan": ["day", "plan"],
+        "row_at": ["day", "plan", "minute"],
+        "finished": ["day", "plan"],
+        "waiting": ["day", "plan"],
+        "plan_for": ["day", "minute", "done"],
+        "forbidding": ["day", "minute", "done"],
+    },
+    "rules.py": {
+        "plan_of": ["rule", "day"],
+        "table": ["day", "plan"],
+        "is_table": ["day", "plan", "items"],
+        "least_waiting": ["day"],
+        "least_tails": ["day", "minute"],
+        "worse_day": ["rule"],
+    },
 }
 CLASSES = {
     "errors.py": {
@@ -28,6 +52,10 @@ CLASSES = {
             "head": ["self", "k"], "tail": ["self", "k"], "fewer": ["self", "other"], "evener": ["self", "other"],
             "__add__": ["self", "other"], "__eq__": ["self", "other"],
         },
+    },
+    "rules.py": {
+        "Shortest": {"__eq__": ["self", "other"]}, "First": {"__eq__": ["self", "other"]},
+        "Longest": {"__eq__": ["self", "other"]}, "Turns": {"__eq__": ["self", "other"]},
     },
 }
 
