@@ -5,9 +5,11 @@ import unittest
 from fewestwait import errors
 from fewestwait.days import check_plan, finished, forbidding, plan_for, row_at, waiting
 from fewestwait.deeds import breaks_evener, breaks_fewer, keeps_evener, keeps_fewer, line_deed, work_deed
+from fewestwait.lines import lengths, lines_table, stays
 from fewestwait.moves import even_moved, even_moves, less_moved, less_moves
 from fewestwait.rows import Row
 from fewestwait.rules import Shortest, is_table, least_tails, least_waiting, plan_of, table
+from fewestwait.weights import cost, exchange_gain
 
 ONE_TEXT = [
     "InvalidRow", "InvalidMove", "InvalidDeed", "InvalidDay", "InvalidWork", "InvalidOrder", "InvalidLines",
@@ -92,6 +94,13 @@ class WhatIsRaised(unittest.TestCase):
         self.assertFails("InvalidDay", plan_of, Shortest(), no_day)
         self.assertFails("InvalidDay", least_waiting, no_day)
         self.assertFails("InvalidDay", least_tails, no_day, 0)
+
+    def test_classes_of_weights_and_lines(self):
+        self.assertFails("InvalidOrder", cost, [(1, 1)], [1])
+        self.assertFails("InvalidOrder", exchange_gain, [(1, 1), (1, 1)], [1, 1], 0)
+        for call in (lengths, lines_table, stays):
+            self.assertFails("InvalidLines", call, 2, ["come", "tick"], [2])
+            self.assertFails("InvalidLines", call, 2, ["come", "tick"], [])
 
     def test_invalid_lines_comes_ahead_of_invalid_deed(self):
         self.assertFails("InvalidLines", line_deed, Row([1, 1]), 1, "no deed")

@@ -39,6 +39,30 @@ FUNCTIONS = {
         "least_tails": ["day", "minute"],
         "worse_day": ["rule"],
     },
+    "weights.py": {
+        "cost": ["people", "order"],
+        "exchange_gain": ["people", "order", "i"],
+        "least_cost": ["people"],
+        "best_order": ["people"],
+        "best_orders": ["people"],
+    },
+    "hands.py": {
+        "least_minutes": ["works", "hands"],
+        "hands_plan": ["works", "hands"],
+        "is_hands_plan": ["works", "hands", "plan"],
+        "least_sum": ["works", "hands"],
+        "division": ["works", "hands"],
+        "division_sum": ["works", "lists"],
+        "two_hands": [],
+    },
+    "lines.py": {
+        "lengths": ["lines", "events", "choices"],
+        "shortest_choices": ["lines", "events"],
+        "round_choices": ["lines", "events"],
+        "common": ["lines", "events"],
+        "lines_table": ["lines", "events", "choices"],
+        "stays": ["lines", "events", "choices"],
+    },
 }
 CLASSES = {
     "errors.py": {
