@@ -75,8 +75,16 @@ def forbidding(day, minute, done):
 
 def check_day(day):
     """Raise InvalidDay if the value is not a list of comings."""
-    if not _is_day(day):
+    if not is_day(day):
         raise InvalidDay("a day is a list of tuples (minute, work), with minutes that never fall")
+
+
+def is_day(value):
+    """Return whether the value is a list of comings."""
+    if not isinstance(value, list) or not all([_is_coming(item) for item in value]):
+        return False
+    minutes = [came for came, _ in value]
+    return minutes == sorted(minutes)
 
 
 def works_of(day):
@@ -99,13 +107,6 @@ def rows_until(day, plan, last):
         if person is not None:
             left[person] -= 1
     return rows
-
-
-def _is_day(value):
-    if not isinstance(value, list) or not all([_is_coming(item) for item in value]):
-        return False
-    minutes = [came for came, _ in value]
-    return minutes == sorted(minutes)
 
 
 def _is_coming(value):

@@ -7,7 +7,7 @@ from fewestwait.rows import Row
 
 def lengths(lines, events, choices):
     """Return the list of the lengths of all lines behind the events."""
-    _check_choices(lines, events, choices)
+    check_choices(lines, events, choices)
     return _all_lengths(lines, events, choices)[-1]
 
 
@@ -39,7 +39,7 @@ def lines_table(lines, events, choices):
 
     The first one is at the beginning, and one more is behind each event.
     """
-    _check_choices(lines, events, choices)
+    check_choices(lines, events, choices)
     shortest = _all_rows(lines, events, shortest_choices(lines, events))
     chosen = _all_rows(lines, events, choices)
     return list(zip(shortest, chosen, _all_commons(lines, events)))
@@ -47,7 +47,7 @@ def lines_table(lines, events, choices):
 
 def stays(lines, events, choices):
     """Return for each person the number of ticks up to being served, None if this is not yet."""
-    _check_choices(lines, events, choices)
+    check_choices(lines, events, choices)
     now = [0] * lines
     ticks_to_come = len(events) - len(choices)
     found = []
@@ -63,7 +63,8 @@ def stays(lines, events, choices):
     return found
 
 
-def _check_choices(lines, events, choices):
+def check_choices(lines, events, choices):
+    """Raise InvalidLines if the choices are not a list with a line for each coming."""
     if not isinstance(choices, list) or len(choices) != _number_of_comings(events):
         raise InvalidLines("the choices are not a list with a line for each coming")
     if not all([is_integer(line) and 0 <= line < lines for line in choices]):

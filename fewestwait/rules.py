@@ -63,7 +63,7 @@ def plan_of(rule, day):
     left = works_of(day)
     plan = []
     last = None
-    for _ in range(_minutes_of_a_rule(day)):
+    for _ in range(minutes_of_rules(day)):
         person = rule.choose(left[:number_come(day, len(plan))], last)
         plan.append(person)
         if person is not None:
@@ -75,13 +75,16 @@ def plan_of(rule, day):
 def table(day, plan):
     """Return the list of tuples (row under Shortest, row under the plan), for each minute up to the end of both."""
     check_plan(day, plan)
-    shortest = plan_of(Shortest(), day)
-    last = max(len(shortest), len(plan))
-    return list(zip(rows_until(day, shortest, last), rows_until(day, plan, last)))
+    last = max(minutes_of_rules(day), len(plan))
+    return list(zip(rows_until(day, plan_of(Shortest(), day), last), rows_until(day, plan, last)))
 
 
 def is_table(day, plan, items):
     """Return whether the items are the table, and show that Shortest has fewer left at each minute."""
+    check_plan(day, plan)
+    # The table has an item for each minute of the works, however great: it is made only for as many items.
+    if len(items) != max(minutes_of_rules(day), len(plan)) + 1:
+        return False
     return items == table(day, plan) and all([one.fewer(other) for one, other in items])
 
 
@@ -119,17 +122,30 @@ def worse_day(rule):
     return ([(0, 2), (0, 1)], 1)
 
 
-def _there(left):
-    """Return the numbers of the people who can be served."""
-    return [person for person, work in enumerate(left) if work > 0]
+def rule_called(name):
+    """Return the rule of this name, or None."""
+    if name == "shortest":
+        return Shortest()
+    if name == "first":
+        return First()
+    if name == "longest":
+        return Longest()
+    if name == "turns":
+        return Turns()
+    return None
 
 
-def _minutes_of_a_rule(day):
-    """Return the number of minutes of a rule's plan: all rules serve in the same minutes."""
+def minutes_of_rules(day):
+    """Return the number of minutes of each rule's plan: all rules serve in the same minutes."""
     end = 0
     for came, work in day:
         end = max(end, came) + work
     return end
+
+
+def _there(left):
+    """Return the numbers of the people who can be served."""
+    return [person for person, work in enumerate(left) if work > 0]
 
 
 def _tails_after(tails, minutes):

@@ -3,12 +3,16 @@
 import unittest
 
 from fewestwait import errors
+from fewestwait.console import Console
 from fewestwait.days import check_plan, finished, forbidding, plan_for, row_at, waiting
 from fewestwait.deeds import breaks_evener, breaks_fewer, keeps_evener, keeps_fewer, line_deed, work_deed
 from fewestwait.lines import lengths, lines_table, stays
+from fewestwait.live import LiveDay
 from fewestwait.moves import even_moved, even_moves, less_moved, less_moves
 from fewestwait.rows import Row
 from fewestwait.rules import Shortest, is_table, least_tails, least_waiting, plan_of, table
+from fewestwait.texts import read_day, read_plan, read_row
+from fewestwait.told import choices_for, rules_for
 from fewestwait.weights import cost, exchange_gain
 
 ONE_TEXT = [
@@ -101,6 +105,37 @@ class WhatIsRaised(unittest.TestCase):
         for call in (lengths, lines_table, stays):
             self.assertFails("InvalidLines", call, 2, ["come", "tick"], [2])
             self.assertFails("InvalidLines", call, 2, ["come", "tick"], [])
+
+    def test_classes_of_what_is_told_and_of_live_days(self):
+        self.assertFails("InvalidDay", rules_for, [(0, 0)], [0, 0])
+        self.assertFails("InvalidPlan", rules_for, [(0, 1)], [0, 0])
+        self.assertFails("InvalidLines", choices_for, 2, ["come"], [2])
+        day = LiveDay(Shortest())
+        self.assertFails("InvalidWork", day.come, 0)
+        self.assertFails("NothingToUndo", day.back)
+        self.assertFails("NothingToUndo", lambda: day.back(count=2))
+
+    def test_classes_of_texts_and_of_the_console(self):
+        for call in (read_row, read_day, read_plan):
+            self.assertFails("InvalidText", call, "")
+            self.assertFails("InvalidText", call, None)
+        console = Console()
+        for command in (None, "", "come 0", "day other", "fewer 1 / 1 2"):
+            self.assertFails("InvalidCommand", console.execute, command)
+        for command in ("come 1", "over", "back 0", "row", "plan", "comings", "waiting"):
+            self.assertFails("NotReady", console.execute, command)
+        console.execute("day first")
+        self.assertFails("NothingToUndo", console.execute, "back 1")
+
+    def test_invalid_command_comes_ahead_of_not_ready_and_of_all_errors_of_the_methods(self):
+        console = Console()
+        self.assertFails("InvalidCommand", console.execute, "come 0")
+        self.assertFails("InvalidCommand", console.execute, "back -1")
+        self.assertFails("InvalidCommand", console.execute, "row 1")
+        self.assertFails("NotReady", console.execute, "back 1")
+        console.execute("day first")
+        self.assertFails("InvalidCommand", console.execute, "come 0")
+        self.assertFails("InvalidCommand", console.execute, "back 01")
 
     def test_invalid_lines_comes_ahead_of_invalid_deed(self):
         self.assertFails("InvalidLines", line_deed, Row([1, 1]), 1, "no deed")

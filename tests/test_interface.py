@@ -63,6 +63,15 @@ FUNCTIONS = {
         "lines_table": ["lines", "events", "choices"],
         "stays": ["lines", "events", "choices"],
     },
+    "told.py": {"rules_for": ["day", "plan"], "choices_for": ["lines", "events", "choices"]},
+    "texts.py": {
+        "show_row": ["row"],
+        "show_day": ["day"],
+        "show_plan": ["plan"],
+        "read_row": ["text"],
+        "read_day": ["text"],
+        "read_plan": ["text"],
+    },
 }
 CLASSES = {
     "errors.py": {
@@ -81,6 +90,14 @@ CLASSES = {
         "Shortest": {"__eq__": ["self", "other"]}, "First": {"__eq__": ["self", "other"]},
         "Longest": {"__eq__": ["self", "other"]}, "Turns": {"__eq__": ["self", "other"]},
     },
+    "live.py": {
+        "LiveDay": {
+            "__init__": ["self", "rule"], "minute": ["self"], "row": ["self"], "plan": ["self"], "comings": ["self"],
+            "waiting": ["self"], "come": ["self", "work"], "over": ["self"], "__len__": ["self"],
+            "back": ["self", "*", "count"],
+        },
+    },
+    "console.py": {"Console": {"execute": ["self", "command"]}},
 }
 
 
@@ -88,9 +105,15 @@ def tree_of(path):
     return ast.parse(path.read_text(encoding="utf-8"))
 
 
+def arguments_of(node):
+    """The names of a function's arguments, with the star if some stand behind it."""
+    behind = [arg.arg for arg in node.args.kwonlyargs]
+    return [arg.arg for arg in node.args.args] + (["*", *behind] if behind else [])
+
+
 def functions_in(body):
     """The functions that are defined just here, each with the names of its arguments."""
-    return {node.name: [arg.arg for arg in node.args.args] for node in body if isinstance(node, ast.FunctionDef)}
+    return {node.name: arguments_of(node) for node in body if isinstance(node, ast.FunctionDef)}
 
 
 class Interface(unittest.TestCase):
@@ -108,6 +131,20 @@ class Interface(unittest.TestCase):
                 self.assertIn(one, found)
                 for method, arguments in methods.items():
                     self.assertEqual(found[one].get(method), arguments, f"{name}: {one}.{method}")
+
+
+    def test_properties(self):
+        for name, one, properties in [
+            ("rows.py", "Row", ["parts"]),
+            ("live.py", "LiveDay", ["comings", "minute", "plan", "row", "waiting"]),
+        ]:
+            [body] = [node.body for node in tree_of(PACKAGE / name).body if getattr(node, "name", None) == one]
+            found = [node.name for node in body if isinstance(node, ast.FunctionDef) and node.decorator_list]
+            self.assertEqual(sorted(found), properties)
+
+    def test_files_of_the_interface_are_all_named_here(self):
+        files = {path.name for path in PACKAGE.glob("*.py")}
+        self.assertEqual(files - {"__init__.py", "kinds.py"}, set(FUNCTIONS) | set(CLASSES))
 
 
 class Files(unittest.TestCase):

@@ -288,6 +288,12 @@ class Tables(unittest.TestCase):
             for items in (table(day, other), table_of([(0, 2), (1, 2)], [0, 0, 1, 1])):
                 self.assertIs(is_table(day, plan, items), items == table_of(day, plan))
 
+    def test_days_of_great_works_and_minutes(self):
+        for day in ([(0, GREAT)], [(GREAT, 1)], [(0, 1), (GREAT, GREAT)]):
+            for plan in ([], [None]):
+                for items in ([], [(Row([]), Row([]))], [(Row([GREAT]), Row([GREAT]))] * 2):
+                    self.assertIs(is_table(day, plan, items), False)
+
     def test_rows_that_are_made_anew_are_a_table_too(self):
         day, plan = [(0, 3), (1, 1)], [0, 0, 0, 1]
         items = [(Row(one.parts[::-1]), Row(other.parts)) for one, other in table(day, plan)]
